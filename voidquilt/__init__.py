@@ -1,0 +1,1 @@
+"""Voidquilt: questions to tables, answered with papers that nothing more answers."""
