@@ -3,14 +3,11 @@
 import unittest
 from itertools import product
 
-from tests.helper import (BEGINNINGS, NO_BEGINNINGS, NO_WORTHS, SHORT_BEGINNINGS, apart, begins, figures_by_hand,
-                          points_of, under)
+from tests.helper import (BEGINNINGS, NO_BOXES, NO_POINTS, SHORT_BEGINNINGS, apart, begins, figures_by_hand, points_of,
+                          under, with_at)
 from voidquilt import boxes
 from voidquilt.boxes import box_of, halves, holds, is_box, is_point, joined, lies_in, meet, volume, whole
 from voidquilt.errors import BadBox, BadPoint, Unlike
-
-NO_TUPLES = [None, True, False, 0, 5, -1, 3.0, "", "01", "0" * 400, b"01", [], [""], ["0", "1"], [3], [3, 4], {},
-             {"0": "1"}, {3}]
 
 BOXES = [("",), ("01",), ("11111",), ("", "0"), ("10", "01101"), ("1", "", "00"), ("0", "1", "0", "1"),
          ("", "", "", "", ""), ("0", "10", "110", "1110", "11110")]
@@ -21,15 +18,6 @@ PAIRS_OF_TWO = list(product(list(product(SHORT_BEGINNINGS, repeat=2)), repeat=2)
 # Under a beginning of at most two signs lies each quarter of the worths whole or not at all: its ends are enough.
 CORNERS = [0, 7, 8, 15, 16, 23, 24, 31]
 
-
-def with_at(good, bad):
-    """A tuple of one to five places with the bad thing at any of them."""
-    return [(good,) * at + (bad,) + (good,) * (many - at - 1) for many in range(1, 6) for at in range(many)]
-
-
-NO_BOXES = NO_TUPLES + [(), ("",) * 6, ("0",) * 6] + [
-    thing for bad in NO_BEGINNINGS for thing in with_at("01", bad)]
-NO_POINTS = NO_TUPLES + [(), (3,) * 6] + [thing for bad in NO_WORTHS for thing in with_at(7, bad)]
 
 
 def made_by_hand(one, other):

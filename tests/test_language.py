@@ -1,6 +1,7 @@
-"""What a test can see of the rules for the package's code: L1 to L3, L5 to L8, L10, L12, L14 to L17, L20, L25, L27."""
+"""What a test can see of the rules for the package's code: L1 to L3, L5 to L8, L10, L12, L14 to L20, L22 to L28."""
 
 import ast
+import builtins
 import re
 import unittest
 from pathlib import Path
@@ -27,6 +28,14 @@ BARRED_WORDS = re.compile(r"\b(type|typing|typing_extensions|enum|Enum|IntEnum|S
 BARRED_NAMES = set("""register mro elements open input version_info with_traceback add_note attrgetter breakpoint
     builtins compile copyright credits delattr dir eval exec exit gc getattr globals hasattr help id importlib license
     locals methodcaller os quit setattr vars sys format format_map print chr float""".split())
+# Where a class has __eq__ these take a list, not a generator expression.
+NEED_A_LIST = set("any all min max sum sorted".split())
+# Each may be called off an own object only, not off a list.
+BARRED_CALLS = {"sort", "fromhex", "to_bytes", "bytes"}
+# Iterated where they stand, never kept.
+AT_ONCE = set("zip enumerate reversed range iter".split())
+AT_ONCE_METHODS = set("items keys values".split())
+TAKERS = set("list tuple dict sorted sum any all enumerate zip min max reversed next".split())
 BARRED_NODES = (ast.Import, ast.Global, ast.AsyncFunctionDef, ast.AsyncFor, ast.AsyncWith, ast.Await, ast.Div)
 
 
@@ -127,7 +136,10 @@ class LanguageTest(unittest.TestCase):
                     self.assertTrue(node.id in bound or node.id in BUILTINS, (stem, node.lineno, node.id))
                 if isinstance(node, ast.arg) or isinstance(node, ast.Name) and isinstance(node.ctx, ast.Store):
                     self.assertNotIn(getattr(node, "arg", getattr(node, "id", "")), imported, (stem, node.lineno))
+            methods = {row.name for top in tree.body if isinstance(top, ast.ClassDef)
+                       for row in top.body if isinstance(row, ast.FunctionDef)}
             self.assertEqual(bound & (BUILTINS | BARRED_NAMES), set(), stem)
+            self.assertEqual((bound - methods) & set(dir(builtins)), set(), stem)
             for name in bound - DOUBLE:
                 self.assertRegex(name, r"^[A-Za-z][A-Za-z0-9_]*$", stem)
 
@@ -146,6 +158,70 @@ class LanguageTest(unittest.TestCase):
                     methods.add(row.name)
         stored = {node.attr for _, node in nodes(ast.Attribute) if isinstance(node.ctx, ast.Store)}
         self.assertEqual(methods & stored, set())
+        for stem, node in nodes(ast.Attribute):
+            self.assertIn(node.attr, methods | stored | METHODS | DOUBLE, (stem, node.lineno))
+
+    def test_calls(self):
+        for stem, node in nodes(ast.Call):
+            where = (stem, node.lineno)
+            name = getattr(node.func, "id", getattr(node.func, "attr", ""))
+            self.assertNotIn(name, BARRED_CALLS, where)
+            if name in NEED_A_LIST:
+                self.assertFalse(any(isinstance(part, ast.GeneratorExp) for part in node.args), where)
+
+    def test_what_is_iterated_at_once(self):
+        for stem, tree in TREES.items():
+            fine = set()
+            for node in ast.walk(tree):
+                if isinstance(node, (ast.For, ast.comprehension)):
+                    fine.add(node.iter)
+                elif isinstance(node, ast.Call) and getattr(node.func, "id", "") in TAKERS:
+                    fine.update(node.args)
+            for node in ast.walk(tree):
+                if isinstance(node, ast.Call) and (getattr(node.func, "id", "") in AT_ONCE
+                                                   or getattr(node.func, "attr", "") in AT_ONCE_METHODS):
+                    self.assertIn(node, fine, (stem, node.lineno))
+
+    def test_sets(self):
+        for stem, function in nodes(ast.FunctionDef):
+            stored = [node.targets[0].id for node in ast.walk(function)
+                      if isinstance(node, ast.Assign) and self.is_set(node.value)]
+            self.assertEqual(len(stored), len(set(stored)), (stem, function.name))
+            for node in ast.walk(function):
+                where = (stem, getattr(node, "lineno", 0))
+                if isinstance(node, (ast.For, ast.comprehension)):
+                    self.assertFalse(self.is_set(node.iter) or getattr(node.iter, "id", "") in stored, where)
+                if isinstance(node, ast.Return):
+                    self.assertFalse(self.is_set(node.value) or getattr(node.value, "id", "") in stored, where)
+
+    @staticmethod
+    def is_set(node):
+        made = isinstance(node, ast.Call) and getattr(node.func, "id", "") in ("set", "frozenset")
+        return made or isinstance(node, (ast.Set, ast.SetComp))
+
+    def test_raise_makes_its_error_on_the_spot(self):
+        for stem, node in nodes(ast.Raise):
+            self.assertIsInstance(node.exc, ast.Call, (stem, node.lineno))
+            self.assertIn(node.exc.func.id, top_names(TREES["errors"]), (stem, node.lineno))
+
+    def test_double_underscore_methods(self):
+        for stem, node in nodes(ast.FunctionDef):
+            if node.name in ("__eq__", "__len__", "__repr__"):
+                where = (stem, node.lineno)
+                self.assertIsInstance(node.body[-1], ast.Return, where)
+                for inner in ast.walk(node):
+                    self.assertNotIsInstance(inner, (ast.AugAssign, ast.Delete), where)
+                    if isinstance(inner, ast.Assign):
+                        self.assertIsInstance(inner.value, (ast.List, ast.ListComp), where)
+
+    def test_loops_leave_alone_what_they_go_over(self):
+        changing = set("append clear extend insert pop remove reverse setdefault update".split())
+        for stem, loop in nodes(ast.For):
+            gone_over = {ast.unparse(node) for node in ast.walk(loop.iter) if isinstance(node, (ast.Name, ast.Attribute))}
+            for row in loop.body:
+                for node in ast.walk(row):
+                    if isinstance(node, ast.Call) and getattr(node.func, "attr", "") in changing:
+                        self.assertNotIn(ast.unparse(node.func.value), gone_over, (stem, node.lineno))
 
 
 if __name__ == "__main__":

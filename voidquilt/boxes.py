@@ -66,10 +66,15 @@ def holds(box, point):
     return all([figures(worth).startswith(beginning) for worth, beginning in zip(point, box)])
 
 
+def within(one, other):
+    """As lies_in, of two that are known to be boxes of one room."""
+    return all([inner.startswith(outer) for inner, outer in zip(one, other)])
+
+
 def lies_in(one, other):
     """Whether each beginning of one begins with the other one's there."""
     need_boxes(one, other)
-    return all([inner.startswith(outer) for inner, outer in zip(one, other)])
+    return within(one, other)
 
 
 def longer(one, other):
