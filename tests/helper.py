@@ -1,6 +1,8 @@
-"""What several tests need: all beginnings, things that are none, and points to look at."""
+"""What several tests need: all beginnings, things that are none, points to look at, books and questions."""
 
 from itertools import product
+
+from voidquilt.book import Book
 
 BEGINNINGS = ["".join(signs) for count in range(6) for signs in product("01", repeat=count)]
 SHORT_BEGINNINGS = [beginning for beginning in BEGINNINGS if len(beginning) <= 2]
@@ -56,7 +58,55 @@ def in_box(point, box):
     return all(begins(figures_by_hand(worth), beginning) for worth, beginning in zip(point, box))
 
 
+def book_of(tables):
+    """A book with these tables, told as {name: (width, rows)}."""
+    book = Book()
+    for name, (width, rows) in tables.items():
+        book.make(name, width)
+        book.fill(name, rows)
+    return book
+
+
+def state_of(book):
+    """All that a book tells of itself."""
+    return ({name: (book.width(name), book.rows(name)) for name in book.names()}, len(book), repr(book), book.steps())
+
+
+def fits(book, question, point):
+    """Whether a point fits, by [11] word for word."""
+    names, _, ties, less = question
+    worths = dict(zip(names, point))
+    return (all(tuple(worths.get(term, term) for term in terms) in book.rows(table) for table, terms in ties)
+            and all(worths[first] < worths[second] for first, second in less))
+
+
+def fitting(book, question, worths):
+    """The points that fit, of those that have only these worths."""
+    return [point for point in product(worths, repeat=len(question[0])) if fits(book, question, point)]
+
+
 def random_rows(chance, width, worths, most):
     """Some unlike rows in any order."""
     rows = {tuple(chance.choice(worths) for _ in range(width)) for _ in range(chance.randint(0, most))}
     return chance.sample(sorted(rows), len(rows))
+
+
+def random_tables(chance, worths):
+    return {name: (width, random_rows(chance, width, worths, 36))
+            for name, width in (("one", 1), ("edge", 2), ("arc", 2), ("tri", 3), ("quad", 4))}
+
+
+def random_question(chance, tables, worths):
+    """A question that fits tables told as {name: (width, rows)}."""
+    names = tuple(chance.sample(["a", "b", "ca", "dog", "eeee", "x", "zz"], chance.randint(1, 4)))
+    while True:
+        ties = []
+        for _ in range(chance.randint(1, 4)):
+            table = chance.choice(sorted(tables))
+            terms = [chance.choice(worths) if chance.random() < 0.15 else chance.choice(names)
+                     for _ in range(tables[table][0])]
+            ties.append((table, tuple(terms)))
+        if all(any(name in terms for _, terms in ties) for name in names):
+            break
+    less = [tuple(chance.sample(names, 2)) for _ in range(chance.choice([0, 0, 1, 2])) if len(names) > 1]
+    return (names, chance.randint(1, len(names)), tuple(ties), tuple(less))
