@@ -77,9 +77,9 @@ def question_text(question):
     """The question as it is written."""
     need_question(question)
     names, many, ties, less = question
-    words = ["find", *names[:many]]
+    words = ["find"] + list(names[:many])
     if many < len(names):
-        words = [*words, "some", *names[many:]]
+        words += ["some"] + list(names[many:])
     clauses = [tie_text(tie) for tie in ties] + [f"{first} < {second}" for first, second in less]
     return " ".join(words) + " : " + ", ".join(clauses)
 
