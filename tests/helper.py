@@ -1,4 +1,4 @@
-"""What several tests need: all beginnings, things that are none, points to look at, books and questions."""
+"""What several tests need: all beginnings, things that are none, points to look at, books, questions and papers."""
 
 from itertools import product
 
@@ -91,14 +91,14 @@ def random_rows(chance, width, worths, most):
     return chance.sample(sorted(rows), len(rows))
 
 
-def random_tables(chance, worths):
-    return {name: (width, random_rows(chance, width, worths, 36))
+def random_tables(chance, worths, most=36):
+    return {name: (width, random_rows(chance, width, worths, most))
             for name, width in (("one", 1), ("edge", 2), ("arc", 2), ("tri", 3), ("quad", 4))}
 
 
-def random_question(chance, tables, worths):
-    """A question that fits tables told as {name: (width, rows)}."""
-    names = tuple(chance.sample(["a", "b", "ca", "dog", "eeee", "x", "zz"], chance.randint(1, 4)))
+def random_question(chance, tables, worths, most=4):
+    """A question of at most so many names that fits tables told as {name: (width, rows)}."""
+    names = tuple(chance.sample(["a", "b", "ca", "dog", "eeee", "x", "zz"], chance.randint(1, most)))
     while True:
         ties = []
         for _ in range(chance.randint(1, 4)):
@@ -110,3 +110,113 @@ def random_question(chance, tables, worths):
             break
     less = [tuple(chance.sample(names, 2)) for _ in range(chance.choice([0, 0, 1, 2])) if len(names) > 1]
     return (names, chance.randint(1, len(names)), tuple(ties), tuple(less))
+
+
+def random_deed(chance, book, worths, names=None):
+    """A deed that the book doesn't refuse, on one of its tables, or of those of these names."""
+    name = chance.choice(names or book.names())
+    width, rows = book.width(name), book.rows(name)
+    fresh = tuple(chance.choice(worths) for _ in range(width))
+    word = chance.choice(["put", "put", "take", "take", "fill"])
+    if word == "put" and fresh not in rows and len(rows) < 40:
+        return ("put", name, fresh)
+    if word == "take" and rows:
+        return ("take", name, chance.choice(rows))
+    return ("fill", name, random_rows(chance, width, worths, 8))
+
+
+def let_rows(book, question, tie):
+    """What a tie lets by, by [13]: from the rows of its table, each looked at by itself."""
+    names, _, ties, _ = question
+    table, terms = ties[tie]
+    let = set()
+    for row in book.rows(table):
+        worths = {term: worth for term, worth in zip(terms, row) if isinstance(term, str)}
+        if tuple(worths.get(term, term) for term in terms) == row:
+            let.add(tuple(worths[name] for name in names if name in terms))
+    return sorted(let)
+
+
+def joined_by_hand(one, other):
+    """The box that two boxes make, by [5] word for word, or None."""
+    for at in range(len(one)):
+        mine, its = one[at], other[at]
+        if mine and its and mine[:-1] == its[:-1] and mine != its:
+            if all(begins(a, b) or begins(b, a) for k, (a, b) in enumerate(zip(one, other)) if k != at):
+                return tuple(mine[:-1] if k == at else max(a, b, key=len) for k, (a, b) in enumerate(zip(one, other)))
+    return None
+
+
+def is_plain_number(thing, most):
+    return type(thing) is int and 0 <= thing < most
+
+
+def is_own_box(question, thing):
+    return type(thing) is tuple and len(thing) == len(question[0]) and all(
+        type(part) is str and part in BEGINNINGS for part in thing)
+
+
+def shown_box(question, point):
+    many = question[1]
+    return tuple(map(figures_by_hand, point[:many])) + ("",) * (len(point) - many)
+
+
+def holding_box(book, question, let, paper, at, boxes):
+    """The box of a step that holds by [14], else None; let is what each tie lets by, boxes those of the steps ahead."""
+    names, _, ties, less = question
+    match paper[at]:
+        case ("empty", tie, box) if is_plain_number(tie, len(ties)) and is_own_box(question, box):
+            own = [beginning for name, beginning in zip(names, box) if name in ties[tie][1]]
+            return None if any(in_box(row, own) for row in let[tie]) else box
+        case ("less", pair, box) if is_plain_number(pair, len(less)) and is_own_box(question, box):
+            first, second = (under(box[names.index(name)]) for name in less[pair])
+            return None if any(one < two for one in first for two in second) else box
+        case ("told", point) if type(point) is tuple and len(point) == len(names) and all(
+                is_plain_number(worth, 32) for worth in point):
+            ahead = [step[1][:question[1]] for step in paper[:at] if is_told(question, step)]
+            fine = fits(book, question, point) and point[:question[1]] not in ahead
+            return shown_box(question, point) if fine else None
+        case ("joined", one, other, box) if is_plain_number(one, at) and is_plain_number(other, at):
+            if boxes[one] is None or boxes[other] is None or not is_own_box(question, box):
+                return None
+            return box if joined_by_hand(boxes[one], boxes[other]) == box else None
+    return None
+
+
+def is_told(question, step):
+    return (type(step) is tuple and len(step) == 2 and step[0] == "told" and type(step[1]) is tuple
+            and len(step[1]) == len(question[0]))
+
+
+def boxes_by_hand(book, question, paper):
+    """For each step its box where it holds, else None."""
+    boxes = []
+    let = [let_rows(book, question, tie) for tie in range(len(question[2]))]
+    for at, step in enumerate(paper):
+        # A pattern of a sequence takes lists too, and they are no steps.
+        boxes.append(holding_box(book, question, let, paper, at, boxes) if type(step) is tuple else None)
+    return boxes
+
+
+def fault_by_hand(book, question, paper):
+    boxes = boxes_by_hand(book, question, paper)
+    if None in boxes:
+        return boxes.index(None)
+    return None if boxes and boxes[-1] == ("",) * len(question[0]) else len(paper)
+
+
+def rows_let(book, question):
+    """How many rows the ties let by together."""
+    return sum(len(let_rows(book, question, tie)) for tie in range(len(question[2])))
+
+
+def paper_cases(chance, count, most_names=5):
+    """So many books and questions, with rows few enough for papers."""
+    made = []
+    while len(made) < count:
+        worths = chance.sample(range(32), chance.choice([2, 3, 4, 6]))
+        tables = random_tables(chance, worths, chance.choice([2, 6, 16]))
+        book, question = book_of(tables), random_question(chance, tables, worths, most_names)
+        if rows_let(book, question) <= 100:
+            made.append((book, question, worths))
+    return made

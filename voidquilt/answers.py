@@ -2,14 +2,8 @@
 
 from voidquilt.boxes import is_point
 from voidquilt.errors import BadPoint
-from voidquilt.ties import lets_by, need_fit, own_places
+from voidquilt.ties import lets_by, need_fit, own_places, pair_places
 from voidquilt.walker import Walker
-
-
-def pair_places(question):
-    """For each pair the places of its two names among the question's."""
-    names = question[0]
-    return [(names.index(first), names.index(second)) for first, second in question[3]]
 
 
 def picked(things, places):

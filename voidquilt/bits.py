@@ -6,10 +6,14 @@ WORTHS = 32
 FIGURES = 5
 
 
-def is_worth(thing):
-    """Whether anything at all is a number from 0 to 31."""
+def is_number(thing, low, behind):
+    """Whether anything at all is a number from low to below behind."""
     # Python counts True and False among the integers; here they are no numbers.
-    return isinstance(thing, int) and not isinstance(thing, bool) and 0 <= thing < WORTHS
+    return isinstance(thing, int) and not isinstance(thing, bool) and low <= thing < behind
+
+
+def is_worth(thing):
+    return is_number(thing, 0, WORTHS)
 
 
 def is_beginning(thing):

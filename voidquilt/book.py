@@ -1,6 +1,6 @@
 """Tables that are kept through deeds, rows of deeds, and takings back."""
 
-from voidquilt.bits import is_worth
+from voidquilt.bits import is_number, is_worth
 from voidquilt.errors import BadDeed, BadName, BadRow, BadWidth, Full, NoRow, NoTable, Nothing, Taken, There
 
 MOST_TABLES = 8
@@ -16,10 +16,6 @@ def is_name(thing, most):
     if not isinstance(thing, str) or not 1 <= len(thing) <= most:
         return False
     return thing not in BARRED and all([sign in LETTERS for sign in thing])
-
-
-def is_width(thing):
-    return isinstance(thing, int) and not isinstance(thing, bool) and 1 <= thing <= MOST_WIDTH
 
 
 def is_row(thing, width):
@@ -58,7 +54,7 @@ def make_table(tables, name, width):
         raise BadName()
     if name in tables:
         raise Taken(name)
-    if not is_width(width):
+    if not is_number(width, 1, MOST_WIDTH + 1):
         raise BadWidth()
     if len(tables) >= MOST_TABLES:
         raise Full("tables")

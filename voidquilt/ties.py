@@ -24,6 +24,12 @@ def own_places(question, tie):
     return [at for at, name in enumerate(question[0]) if name in terms]
 
 
+def pair_places(question):
+    """For each pair the places of its two names among the question's."""
+    names = question[0]
+    return [(names.index(first), names.index(second)) for first, second in question[3]]
+
+
 def own_names(question, tie):
     """The names that stand in the tie, in the question's order."""
     need_question(question)
@@ -72,8 +78,7 @@ def tie_gap(book, question, tie, point):
 def pair_gap(question, pair, point):
     """The box about the point where no first worth is less than the second one, or None where it is less."""
     need_question(question)
-    names = question[0]
-    places = [names.index(name) for name in question[3][pair]]
+    places = pair_places(question)[pair]
     first, second = [point[at] for at in places]
     if first < second:
         return None

@@ -1,6 +1,6 @@
 """Questions: what is one, and how they are written and read."""
 
-from voidquilt.bits import WORTHS, is_worth
+from voidquilt.bits import WORTHS, is_number, is_worth
 from voidquilt.book import LETTERS, MOST_LETTERS, MOST_WIDTH, is_name
 from voidquilt.boxes import MOST_PLACES
 from voidquilt.errors import BadQuestion, BadText
@@ -21,10 +21,6 @@ def are_names(thing):
     if not is_tuple(thing, 1, MOST_PLACES) or not all([is_name(part, MOST_NAME) for part in thing]):
         return False
     return len(set(thing)) == len(thing)
-
-
-def is_count(thing, most):
-    return isinstance(thing, int) and not isinstance(thing, bool) and 1 <= thing <= most
 
 
 def is_tie(thing, names):
@@ -53,7 +49,7 @@ def is_question(thing):
     if not is_tuple(thing, 4, 4):
         return False
     names, many, ties, less = thing
-    if not are_names(names) or not is_count(many, len(names)):
+    if not are_names(names) or not is_number(many, 1, len(names) + 1):
         return False
     if not is_tuple(ties, 1, MOST_TIES) or not all([is_tie(tie, names) for tie in ties]):
         return False
