@@ -2,12 +2,8 @@
 
 from voidquilt.boxes import is_point
 from voidquilt.errors import BadPoint
-from voidquilt.ties import lets_by, need_fit, own_places, pair_places
+from voidquilt.ties import lets_by, need_fit, own_places, pair_places, picked
 from voidquilt.walker import Walker
-
-
-def picked(things, places):
-    return tuple([things[at] for at in places])
 
 
 def with_row(point, places, row):
@@ -113,10 +109,12 @@ class Search:
 
     def answer_behind(self, last):
         """The least answer greater than last, or of all where it is None; None where there is none."""
-        if self.empty:
-            return None
         # No worth is as great as the last one's next where that is 32: the search goes on at the place ahead then.
-        found = self.least(() if last is None else last[:-1] + (last[-1] + 1,))
+        return self.answer_from(() if last is None else last[:-1] + (last[-1] + 1,))
+
+    def answer_from(self, start):
+        """The least answer not less than start, or None."""
+        found = None if self.empty else self.least(start)
         return None if found is None else found[:self.shown]
 
     def least(self, start):

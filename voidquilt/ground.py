@@ -2,16 +2,12 @@
 
 from voidquilt.bits import figures, span
 from voidquilt.boxes import whole, within
-from voidquilt.ties import lets_by, need_fit, own_places, pair_places
+from voidquilt.ties import lets_by, need_fit, own_places, pair_places, picked
 
 
 def never_less(first, second):
     """Whether no worth under the first beginning is less than one under the second."""
     return span(first)[0] >= span(second)[1] - 1
-
-
-def picked_box(box, places):
-    return tuple([box[at] for at in places])
 
 
 class Ground:
@@ -29,7 +25,7 @@ class Ground:
 
     def is_empty(self, tie, box):
         """Whether no row that the tie lets by lies in the box's beginnings for its names."""
-        own = picked_box(box, self.tied[tie])
+        own = picked(box, self.tied[tie])
         return not any([within(row, own) for row in self.let[tie]])
 
     def is_never_less(self, pair, box):

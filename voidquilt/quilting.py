@@ -2,10 +2,10 @@
 
 from voidquilt.bits import FIGURES, span
 from voidquilt.boxes import joined, within
-from voidquilt.ground import never_less, picked_box
+from voidquilt.ground import never_less
 from voidquilt.shelf import Shelf, beginnings_of
 from voidquilt.steps import box_of_step, led_over
-from voidquilt.ties import spread
+from voidquilt.ties import picked, spread
 
 
 def widened(rows, box):
@@ -135,14 +135,14 @@ class Quilt:
             return None
         tie = let.index([])
         places = self.ground.tied[tie]
-        beginnings = widened(self.ground.let[tie], picked_box(box, places))
+        beginnings = widened(self.ground.let[tie], picked(box, places))
         return ("empty", tie, spread(self.ground.question, places, beginnings))
 
     def less_step(self, box):
         """A step for a pair that has no point in the box, or None."""
         for pair, places in enumerate(self.ground.pairs):
             if self.ground.is_never_less(pair, box):
-                first, second = picked_box(box, places)
+                first, second = picked(box, places)
                 beginnings = widened_pair(first, second)
                 return ("less", pair, spread(self.ground.question, places, beginnings))
         return None

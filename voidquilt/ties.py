@@ -18,6 +18,11 @@ def need_fit(book, question):
             raise Unfit(at)
 
 
+def picked(things, places):
+    """Of things with one for each place, those at these places."""
+    return tuple([things[at] for at in places])
+
+
 def own_places(question, tie):
     """The places of the tie's own names among the question's, rising."""
     terms = question[2][tie][1]
@@ -67,7 +72,7 @@ def tie_gap(book, question, tie, point):
     """The box about the point in which nothing lies that the tie lets by, or None where it lets the point by."""
     rows = lets_by(book, question, tie)
     places = own_places(question, tie)
-    own = tuple([point[at] for at in places])
+    own = picked(point, places)
     if own in rows:
         return None
     # A tie without names has no point to find a gap about: it lets all by, or nothing.
@@ -79,7 +84,7 @@ def pair_gap(question, pair, point):
     """The box about the point where no first worth is less than the second one, or None where it is less."""
     need_question(question)
     places = pair_places(question)[pair]
-    first, second = [point[at] for at in places]
+    first, second = picked(point, places)
     if first < second:
         return None
     mine = figures(first)
