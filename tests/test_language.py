@@ -169,6 +169,12 @@ class LanguageTest(unittest.TestCase):
             if name in NEED_A_LIST:
                 self.assertFalse(any(isinstance(part, ast.GeneratorExp) for part in node.args), where)
 
+    def test_stars_in_calls(self):
+        for stem, node in nodes(ast.Call):
+            for part in node.args:
+                if isinstance(part, ast.Starred):
+                    self.assertIsInstance(part.value, (ast.Name, ast.Attribute, ast.List, ast.Tuple), (stem, node.lineno))
+
     def test_what_is_iterated_at_once(self):
         for stem, tree in TREES.items():
             fine = set()
